@@ -1,0 +1,1 @@
+"""Signs put together of parts in boxes, and the order in which their strokes are written."""

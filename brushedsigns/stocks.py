@@ -1,0 +1,73 @@
+"""Stocks: the parts and frames of which signs are put together."""
+
+from brushedsigns.errors import BadName, BadStock
+from brushedsigns.values import is_integer, is_less, is_name, is_place, is_tuple
+
+
+def is_stock(thing):
+    """Whether the thing is a stock: (parts, frames), no name standing twice."""
+    if not is_tuple(thing, 2, 2):
+        return False
+    parts, frames = thing
+    if not is_tuple(parts, 1, 12) or not is_tuple(frames, 0, 6):
+        return False
+    if not all([_is_part(part) for part in parts]) or not all([_is_frame(frame) for frame in frames]):
+        return False
+    names = [entry[0] for entry in parts + frames]
+    return len(set(names)) == len(names)
+
+
+def kind_of(stock, name):
+    """The kind of the part or frame of that name."""
+    return _entry(stock, name)[1]
+
+
+def sorts_of(stock, name):
+    """The sorts of the strokes of the part or frame of that name, in their sequence."""
+    return tuple([stroke[0] for stroke in _entry(stock, name)[2]])
+
+
+def _entry(stock, name):
+    """The part or frame of that name."""
+    if not is_stock(stock):
+        raise BadStock("this is no stock")
+    if is_name(name):
+        parts, frames = stock
+        for entry in parts + frames:
+            if entry[0] == name:
+                return entry
+    raise BadName("the stock has no part or frame of this name")
+
+
+def _is_part(thing):
+    return is_tuple(thing, 3, 3) and is_name(thing[0]) and is_name(thing[1]) and _are_strokes(thing[2])
+
+
+def _is_frame(thing):
+    if not is_tuple(thing, 5, 5) or not _is_part(thing[:3]):
+        return False
+    strokes, hole, last = thing[2:]
+    return _is_hole(hole) and is_integer(last) and 0 <= last <= len(strokes)
+
+
+def _are_strokes(thing):
+    return is_tuple(thing, 1, 8) and all([_is_stroke(stroke) for stroke in thing])
+
+
+def _is_stroke(thing):
+    return is_tuple(thing, 2, 2) and is_name(thing[0]) and _are_points(thing[1])
+
+
+def _are_points(thing):
+    return is_tuple(thing, 2, 6) and all([_is_point(point) for point in thing])
+
+
+def _is_point(thing):
+    return is_tuple(thing, 2, 2) and is_place(thing[0]) and is_place(thing[1])
+
+
+def _is_hole(thing):
+    if not is_tuple(thing, 4, 4) or not all([is_place(side) for side in thing]):
+        return False
+    left, right, upper, lower = thing
+    return is_less(left, right) and is_less(upper, lower)
