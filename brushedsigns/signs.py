@@ -1,8 +1,8 @@
 """Signs: how parts and frames are put together, and the texts of signs."""
 
+from brushedsigns.boxes import WHOLE, is_bounded, parted
 from brushedsigns.errors import BadSign, BadText
-from brushedsigns.values import (
-    DIGITS, MOST_DEEP, MOST_PARTS, WHOLE, is_bounded, is_cut, is_name, is_tuple, parted)
+from brushedsigns.values import DIGITS, MOST_DEEP, MOST_PARTS, is_cut, is_name, is_tuple
 
 CUT_WORDS = ("across", "down")
 SIGN_WORDS = ("part", "within", "across", "down")
@@ -19,19 +19,19 @@ def is_sign(thing):
 
 def size_of(sign):
     """How many parts and frames stand in the sign."""
-    _check(sign)
+    check_sign(sign)
     return _size(sign)
 
 
 def depth_of(sign):
     """How many signs stand within one another, a part alone being one."""
-    _check(sign)
+    check_sign(sign)
     return _depth(sign)
 
 
 def write_sign(sign):
     """The text of the sign."""
-    _check(sign)
+    check_sign(sign)
     return " ".join(_words_of(sign))
 
 
@@ -46,7 +46,8 @@ def read_sign(text):
     return sign
 
 
-def _check(thing):
+def check_sign(thing):
+    """Raises BadSign for any object that is no sign."""
     if not is_sign(thing):
         raise BadSign("this is no sign")
 

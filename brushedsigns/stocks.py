@@ -1,7 +1,8 @@
 """Stocks: the parts and frames of which signs are put together."""
 
+from brushedsigns.boxes import is_box
 from brushedsigns.errors import BadName, BadStock
-from brushedsigns.values import is_integer, is_less, is_name, is_place, is_tuple
+from brushedsigns.values import is_integer, is_name, is_place, is_tuple
 
 
 def is_stock(thing):
@@ -47,7 +48,7 @@ def _is_frame(thing):
     if not is_tuple(thing, 5, 5) or not _is_part(thing[:3]):
         return False
     strokes, hole, last = thing[2:]
-    return _is_hole(hole) and is_integer(last) and 0 <= last <= len(strokes)
+    return is_box(hole) and is_integer(last) and 0 <= last <= len(strokes)
 
 
 def _are_strokes(thing):
@@ -64,10 +65,3 @@ def _are_points(thing):
 
 def _is_point(thing):
     return is_tuple(thing, 2, 2) and is_place(thing[0]) and is_place(thing[1])
-
-
-def _is_hole(thing):
-    if not is_tuple(thing, 4, 4) or not all([is_place(side) for side in thing]):
-        return False
-    left, right, upper, lower = thing
-    return is_less(left, right) and is_less(upper, lower)

@@ -1,4 +1,4 @@
-"""What everything else is made of: integers, tuples, names, fractions and boxes."""
+"""What everything else is made of: integers, tuples, names and fractions."""
 
 from math import gcd
 
@@ -9,8 +9,8 @@ MOST_DEEP = 12
 LETTERS = "abcdefghijklmnopqrstuvwxyz"
 DIGITS = "0123456789"
 
-# A box is (left, right, upper, lower); this is the one that every sign fills.
-WHOLE = ((0, 1), (1, 1), (0, 1), (1, 1))
+# Two unlike fractions with bottoms up to GREATEST_BOTTOM are at least one part in so many apart.
+FINENESS = 100000000
 
 # Every judge below takes any object, also one that claims to be equal to
 # everything: so the kind of a thing is asked ahead of all that compares it.
@@ -24,6 +24,11 @@ def is_integer(thing):
 def is_tuple(thing, least, most):
     """Whether the thing is a tuple with at least the one and at most the other number of entries."""
     return isinstance(thing, tuple) and least <= len(thing) <= most
+
+
+def are_integers(thing):
+    """Whether the thing is a tuple of integers, however many."""
+    return isinstance(thing, tuple) and all([is_integer(entry) for entry in thing])
 
 
 def is_name(thing):
@@ -58,24 +63,36 @@ def is_less(one, other):
     return one[0] * other[1] < other[0] * one[1]
 
 
-def between(low, high, cut):
-    """The fraction, in least terms, that lies between the two at the share of their distance that the cut tells."""
-    top = low[0] * high[1] * (cut[1] - cut[0]) + high[0] * low[1] * cut[0]
-    bottom = low[1] * high[1] * cut[1]
+def weight(place):
+    """An integer for a fraction such as cells have: the greater the one, the greater the other."""
+    return place[0] * FINENESS // place[1]
+
+
+def ascending(places):
+    """The fractions, such as cells have, each once, from the least to the greatest."""
+    known = {weight(place): place for place in places}
+    return [known[key] for key in sorted(known)]
+
+
+def rest_of(fraction):
+    """What the fraction leaves of 1."""
+    return (fraction[1] - fraction[0], fraction[1])
+
+
+def in_least_terms(top, bottom):
+    """The fraction that is so many parts of so many."""
     common = gcd(top, bottom)
     return (top // common, bottom // common)
 
 
-def parted(box, word, cut):
-    """The two boxes into which a cut, "across" or "down" and a share of the box, parts it."""
-    left, right, upper, lower = box
-    if word == "across":
-        middle = between(left, right, cut)
-        return (left, middle, upper, lower), (middle, right, upper, lower)
-    middle = between(upper, lower, cut)
-    return (left, right, upper, middle), (left, right, middle, lower)
+def between(low, high, cut):
+    """The fraction that lies between the two at the share of their distance that the cut tells."""
+    top = low[0] * high[1] * (cut[1] - cut[0]) + high[0] * low[1] * cut[0]
+    return in_least_terms(top, low[1] * high[1] * cut[1])
 
 
-def is_bounded(box):
-    """Whether none of the box's fractions has too great a bottom."""
-    return all([side[1] <= GREATEST_BOTTOM for side in box])
+def share_of(low, high, middle):
+    """At which share of the distance of the two the one between them lies."""
+    top = (middle[0] * low[1] - low[0] * middle[1]) * high[1]
+    bottom = (high[0] * low[1] - low[0] * high[1]) * middle[1]
+    return in_least_terms(top, bottom)

@@ -1,6 +1,7 @@
 """The form of the package's files: what ../shared/LANGUAGE.md says that can be told by looking at them."""
 
 import ast
+import builtins
 import importlib
 import inspect
 import pathlib
@@ -17,7 +18,39 @@ INTERFACE = {
     "stocks": {"is_stock": ["thing"], "kind_of": ["stock", "name"], "sorts_of": ["stock", "name"]},
     "signs": {
         "is_sign": ["thing"], "size_of": ["sign"], "depth_of": ["sign"], "write_sign": ["sign"], "read_sign": ["text"]},
+    "pictures": {
+        "is_picture": ["thing"], "picture_of": ["sign"], "paths_of": ["picture"], "content_at": ["picture", "path"],
+        "box_at": ["picture", "path"], "level_at": ["picture", "path"], "mirrored": ["picture"],
+        "turned_over": ["picture"], "turned_side": ["picture"], "moved_path": ["picture", "word", "path"]},
+    "cuts": {
+        "cuts_of": ["picture", "box"], "boxes_of": ["picture"], "cells_in": ["picture", "box"],
+        "count_puttings": ["picture"], "first_putting": ["picture"], "puttings": ["picture"],
+        "is_putting": ["picture", "thing"], "bar_of": ["picture"], "bar_holds": ["picture", "thing"],
+        "ranks_of": ["picture"], "same_shape": ["picture", "other"], "evened": ["picture"]},
+    "moving": {
+        "moves_of": ["sign"], "moved": ["sign", "move"], "moves_between": ["sign", "other"],
+        "moves_lead": ["sign", "other", "thing"], "all_led": ["sign"], "plain": ["sign"]},
+    "orders": {
+        "order_of": ["sign", "hand"], "orders_of": ["picture", "hand"], "count_orders": ["picture"],
+        "crosses_of": ["picture"], "one_order": ["picture"], "unlike_parts": ["picture", "hand"],
+        "order_putting": ["picture", "hand", "order"], "order_bar": ["picture", "hand", "order"],
+        "order_bar_holds": ["picture", "hand", "order", "thing"]},
 }
+BUILTINS = {
+    "len", "range", "enumerate", "zip", "min", "max", "sum", "abs", "sorted", "reversed", "int", "str", "bool", "list", "tuple",
+    "dict", "set", "isinstance", "ord", "repr", "any", "all", "divmod", "super", "ValueError", "TypeError"}
+METHODS = {
+    "append", "clear", "copy", "count", "endswith", "extend", "find", "get", "index", "insert", "isalnum", "isalpha", "isdigit",
+    "islower", "isspace", "isupper", "items", "join", "keys", "ljust", "lower", "lstrip", "partition", "pop", "remove",
+    "replace", "reverse", "rfind", "rjust", "rpartition", "rsplit", "rstrip", "setdefault", "split", "splitlines",
+    "startswith", "strip", "update", "upper", "values", "zfill", "bit_length", "add", "discard", "__init__"}
+STATEMENTS = (ast.Global, ast.AsyncFunctionDef, ast.Try, ast.With, ast.Yield, ast.YieldFrom, ast.AnnAssign, ast.SetComp)
+BARRED_WORDS = {
+    "type", "typing", "typing_extensions", "enum", "Enum", "IntEnum", "StrEnum", "Flag", "IntFlag", "Generic", "Protocol",
+    "ABC", "ABCMeta", "namedtuple", "NamedTuple", "TypedDict", "TYPE_CHECKING", "abstractmethod", "_wall", "_WallAttr",
+    "register", "mro", "elements", "open", "input", "law", "version_info", "attrgetter", "breakpoint", "builtins", "compile",
+    "copyright", "credits", "delattr", "dir", "eval", "exec", "exit", "gc", "getattr", "globals", "hasattr", "help", "id",
+    "importlib", "license", "locals", "methodcaller", "os", "quit", "setattr", "vars", "sys"}
 
 
 def files():
@@ -52,6 +85,47 @@ class Form(unittest.TestCase):
                 if isinstance(node, ast.ImportFrom):
                     self.check_import(path, node)
 
+    def test_names_that_are_bound_in_functions(self):
+        for path in files():
+            tree = ast.parse(path.read_text(encoding="utf-8"))
+            imported = {alias.name for node in tree.body if isinstance(node, ast.ImportFrom) for alias in node.names}
+            above = list(bound(tree)) + sorted(imported)
+            self.assertEqual(len(above), len(set(above)), path)
+            for name in above + inner_names(tree):
+                self.assertNotIn(name, dir(builtins), path)
+                self.assertNotIn(name, BARRED_WORDS, path)
+            self.assertEqual(set(inner_names(tree)) & (imported | classes(tree)), set(), path)
+
+    def test_only_known_builtins_methods_and_statements(self):
+        for path in files():
+            tree = ast.parse(path.read_text(encoding="utf-8"))
+            for node in ast.walk(tree):
+                self.assertNotIsInstance(node, STATEMENTS, path)
+                if isinstance(node, ast.Name) and node.id in dir(builtins):
+                    self.assertIn(node.id, BUILTINS, path)
+                if isinstance(node, ast.Call) and isinstance(node.func, ast.Attribute):
+                    self.assertIn(node.func.attr, METHODS, path)
+                if isinstance(node, ast.Constant) and isinstance(node.value, str):
+                    self.assertNotIn("%", node.value, path)
+                self.assertFalse(isinstance(node, ast.BinOp) and isinstance(node.op, ast.Div), path)
+                self.assertFalse(isinstance(node, ast.Constant) and isinstance(node.value, float), path)
+
+    def test_any_and_all_take_lists(self):
+        for path in files():
+            for node in ast.walk(ast.parse(path.read_text(encoding="utf-8"))):
+                self.assertNotIsInstance(node, ast.GeneratorExp, path)
+
+    def test_no_two_files_import_from_each_other(self):
+        imports = {}
+        for path in files():
+            tree = ast.parse(path.read_text(encoding="utf-8"))
+            modules = [node.module for node in tree.body if isinstance(node, ast.ImportFrom)]
+            imports[path.stem] = {name.partition(".")[2] for name in modules if name not in LIBRARY}
+        while imports:
+            free = [name for name, others in imports.items() if not others]
+            self.assertTrue(free, imports)
+            imports = {name: others - set(free) for name, others in imports.items() if name not in free}
+
     def check_import(self, path, node):
         names = {alias.name for alias in node.names}
         self.assertEqual(node.level, 0, path)
@@ -71,6 +145,23 @@ def bound(tree):
             yield node.name
         elif isinstance(node, ast.Assign):
             yield node.targets[0].id
+
+
+def classes(tree):
+    return {node.name for node in tree.body if isinstance(node, ast.ClassDef)}
+
+
+def inner_names(tree):
+    """The names of parameters and local variables of a file."""
+    found = []
+    for function in ast.walk(tree):
+        if isinstance(function, (ast.FunctionDef, ast.Lambda)):
+            for node in ast.walk(function):
+                if isinstance(node, ast.arg):
+                    found.append(node.arg)
+                if isinstance(node, ast.Name) and isinstance(node.ctx, ast.Store):
+                    found.append(node.id)
+    return found
 
 
 class Interface(unittest.TestCase):

@@ -1,7 +1,7 @@
 import unittest
 
 from brushedsigns.values import (
-    WHOLE, between, is_bounded, is_cut, is_fraction, is_integer, is_less, is_place, parted)
+    are_integers, ascending, between, is_cut, is_fraction, is_integer, is_less, is_place, rest_of, share_of, weight)
 from tests.things import EqualToAll, Stubborn
 
 
@@ -36,18 +36,27 @@ class Values(unittest.TestCase):
         self.assertEqual(between((1, 4), (3, 4), (1, 2)), (1, 2))
         self.assertEqual(between((1, 3), (1, 2), (1, 5)), (11, 30))
 
-    def test_parted(self):
-        self.assertEqual(WHOLE, ((0, 1), (1, 1), (0, 1), (1, 1)))
-        self.assertEqual(parted(WHOLE, "across", (1, 3)),
-                         (((0, 1), (1, 3), (0, 1), (1, 1)), ((1, 3), (1, 1), (0, 1), (1, 1))))
-        self.assertEqual(parted(WHOLE, "down", (1, 3)),
-                         (((0, 1), (1, 1), (0, 1), (1, 3)), ((0, 1), (1, 1), (1, 3), (1, 1))))
+    def test_shares_turn_back_what_is_between(self):
+        self.assertEqual(share_of((1, 3), (1, 2), (11, 30)), (1, 5))
+        self.assertEqual(share_of((0, 1), (1, 1), (2, 3)), (2, 3))
+        self.assertEqual(share_of((1, 4), (3, 4), (1, 4)), (0, 1))
+        self.assertEqual(share_of((1, 4), (3, 4), (3, 4)), (1, 1))
 
-    def test_bounded(self):
-        self.assertIs(is_bounded(WHOLE), True)
-        for side in range(4):
-            for bottom, wanted in [(10000, True), (10001, False)]:
-                self.assertIs(is_bounded(WHOLE[:side] + ((1, bottom),) + WHOLE[side + 1:]), wanted)
+    def test_what_is_left_of_one(self):
+        self.assertEqual([rest_of(place) for place in [(0, 1), (1, 1), (1, 3), (9999, 10000)]],
+                         [(1, 1), (0, 1), (2, 3), (1, 10000)])
+
+    def test_ascending_as_numbers(self):
+        places = [(0, 1), (1, 10000), (1, 9999), (1, 3), (1, 2), (9998, 9999), (9999, 10000), (1, 1)]
+        self.assertEqual(ascending(places[::-1] + places), places)
+        self.assertEqual(sorted(places, key=weight), places)
+        self.assertEqual(len({weight(place) for place in places}), len(places))
+
+    def test_tuples_of_integers(self):
+        for thing in [(), (0,), (1, -1, 10 ** 29)]:
+            self.assertIs(are_integers(thing), True)
+        for thing in [None, [], [0], 0, (True,), (0, False), (None,), ((0,),), ("0",), (EqualToAll(),), EqualToAll()]:
+            self.assertIs(are_integers(thing), False)
 
 
 if __name__ == "__main__":

@@ -1,0 +1,216 @@
+"""What holds for the arguments and results of all functions alike: the second promise."""
+
+import copy
+import inspect
+import unittest
+from itertools import product
+
+from brushedsigns import cuts, moving, orders, pictures
+from brushedsigns.errors import BadBox, BadHand, BadMove, BadOrder, BadPath, BadPicture, BadSign, BadWord, TooMany
+from tests.drawn import FRAMED, LEFT_UPPER, PICTURE_OF_X, WHEEL, framed_picture, grid
+from tests.oracles import WHOLE
+from tests.things import A, B, EqualToAll, HALF, STOCK, Stubborn, X, nested, row
+
+Y = moving.moved(X, ("turn", ()))
+ORDER = ((0,), (1,), (1, 0), (1, 1), (1, 2), (1, 3), (2,))
+# For each parameter something right, and the error for what is not.
+SIGN = (X, BadSign)
+OTHER_SIGN = (Y, BadSign)
+PICTURE = (FRAMED, BadPicture)
+OTHER_PICTURE = (WHEEL, BadPicture)
+PATH = ((1,), BadPath)
+BOX = (WHOLE, BadBox)
+WORD = ("mirrored", BadWord)
+HAND = (LEFT_UPPER, BadHand)
+MOVE = (("turn", ()), BadMove)
+AN_ORDER = (ORDER, BadOrder)
+ANY = (None, None)
+FUNCTIONS = {
+    pictures.is_picture: {"thing": ANY},
+    pictures.picture_of: {"sign": SIGN},
+    pictures.paths_of: {"picture": PICTURE},
+    pictures.content_at: {"picture": PICTURE, "path": PATH},
+    pictures.box_at: {"picture": PICTURE, "path": PATH},
+    pictures.level_at: {"picture": PICTURE, "path": PATH},
+    pictures.mirrored: {"picture": PICTURE},
+    pictures.turned_over: {"picture": PICTURE},
+    pictures.turned_side: {"picture": PICTURE},
+    pictures.moved_path: {"picture": PICTURE, "word": WORD, "path": PATH},
+    cuts.cuts_of: {"picture": PICTURE, "box": BOX},
+    cuts.boxes_of: {"picture": PICTURE},
+    cuts.cells_in: {"picture": PICTURE, "box": BOX},
+    cuts.count_puttings: {"picture": PICTURE},
+    cuts.first_putting: {"picture": PICTURE},
+    cuts.puttings: {"picture": PICTURE},
+    cuts.is_putting: {"picture": PICTURE, "thing": ANY},
+    cuts.bar_of: {"picture": PICTURE},
+    cuts.bar_holds: {"picture": PICTURE, "thing": ANY},
+    cuts.ranks_of: {"picture": PICTURE},
+    cuts.same_shape: {"picture": PICTURE, "other": OTHER_PICTURE},
+    cuts.evened: {"picture": PICTURE},
+    moving.moves_of: {"sign": SIGN},
+    moving.moved: {"sign": SIGN, "move": MOVE},
+    moving.moves_between: {"sign": SIGN, "other": OTHER_SIGN},
+    moving.moves_lead: {"sign": SIGN, "other": OTHER_SIGN, "thing": ANY},
+    moving.all_led: {"sign": SIGN},
+    moving.plain: {"sign": SIGN},
+    orders.order_of: {"sign": SIGN, "hand": HAND},
+    orders.orders_of: {"picture": PICTURE, "hand": HAND},
+    orders.count_orders: {"picture": PICTURE},
+    orders.crosses_of: {"picture": PICTURE},
+    orders.one_order: {"picture": PICTURE},
+    orders.unlike_parts: {"picture": PICTURE, "hand": HAND},
+    orders.order_putting: {"picture": PICTURE, "hand": HAND, "order": AN_ORDER},
+    orders.order_bar: {"picture": PICTURE, "hand": HAND, "order": AN_ORDER},
+    orders.order_bar_holds: {"picture": PICTURE, "hand": HAND, "order": AN_ORDER, "thing": ANY},
+}
+# What is right for none of the parameters that raise an error.
+WRONG = [
+    None, True, False, 7, -1, 10 ** 30 - 1, "", "x", "left", b"mirrored", [], [X], ["turn", ()], {}, set(), object(), len, (None,),
+    (True, False), (False,), (WHOLE, None), STOCK, A + B, [(0,)], ((0,), True), nested((), 55), EqualToAll(), Stubborn(),
+    (EqualToAll(), EqualToAll()), (Stubborn(),), ((0, 1), (True, True), (0, 1), (1, 1))]
+# Functions whose result is a list, with what makes one that is not empty.
+LISTS = [
+    (cuts.cuts_of, [FRAMED, WHOLE]), (cuts.boxes_of, [FRAMED]), (cuts.boxes_of, [WHEEL]), (cuts.puttings, [FRAMED]),
+    (cuts.puttings, [(WHOLE + (A,),)]), (cuts.puttings, [framed_picture(PICTURE_OF_X)]), (moving.moves_of, [X]),
+    (moving.moves_between, [X, Y]), (moving.all_led, [X]), (orders.orders_of, [FRAMED, LEFT_UPPER]),
+    (orders.orders_of, [(WHOLE + (A,),), LEFT_UPPER]), (orders.crosses_of, [FRAMED]),
+    (orders.unlike_parts, [FRAMED, LEFT_UPPER])]
+EMPTY_LISTS = [
+    (cuts.cuts_of, [WHEEL, WHOLE]), (cuts.puttings, [WHEEL]), (moving.moves_of, [A]), (moving.moves_between, [A, A]),
+    (orders.orders_of, [WHEEL, LEFT_UPPER]), (orders.crosses_of, [WHEEL]), (orders.unlike_parts, [WHEEL, LEFT_UPPER])]
+
+
+def lists_in(thing):
+    """All lists in a result, itself among them."""
+    if not isinstance(thing, (list, tuple)):
+        return []
+    return [thing] * isinstance(thing, list) + [found for entry in thing for found in lists_in(entry)]
+
+
+class Arguments(unittest.TestCase):
+    def test_by_position_and_by_name(self):
+        for function, told in FUNCTIONS.items():
+            right = {name: thing for name, (thing, _) in told.items()}
+            self.assertEqual(list(inspect.signature(function).parameters), list(told))
+            self.assertEqual(function(*right.values()), function(**right))
+            self.assertEqual(function(**right), function(**dict(reversed(list(right.items())))))
+
+    def test_any_object_that_is_wrong_raises_the_error_of_its_parameter(self):
+        for function, told in FUNCTIONS.items():
+            for name, (_, error) in told.items():
+                if error is not None:
+                    for wrong in WRONG:
+                        things = {other: thing for other, (thing, _) in told.items()}
+                        things[name] = wrong
+                        with self.assertRaises(error, msg=f"{function.__name__} {name} {wrong!r}"):
+                            function(**things)
+
+    def test_the_first_wrong_argument_raises_its_error(self):
+        for function, told in FUNCTIONS.items():
+            named = [name for name in told if told[name][1] is not None]
+            for marks in product([False, True], repeat=len(named)):
+                wrong_names = [name for name, mark in zip(named, marks) if mark]
+                if wrong_names:
+                    for wrong in (None, [], EqualToAll()):
+                        things = {name: wrong if name in wrong_names else told[name][0] for name in told}
+                        with self.assertRaises(told[wrong_names[0]][1]):
+                            function(**things)
+
+    def test_errors_are_of_that_class_alone(self):
+        for function, told in FUNCTIONS.items():
+            name, (_, error) = list(told.items())[0]
+            if error is not None:
+                with self.assertRaises(error) as caught:
+                    function(*[None] * len(told))
+                self.assertIs(type(caught.exception), error)
+
+    def test_too_many_comes_behind_all_others(self):
+        with self.assertRaises(TooMany):
+            cuts.puttings(grid(1, 12))
+        with self.assertRaises(BadPicture):
+            cuts.puttings(framed_picture(grid(1, 12)))
+        with self.assertRaises(TooMany):
+            moving.all_led(row(12))
+        with self.assertRaises(BadSign):
+            moving.all_led(row(13))
+
+    def test_arguments_are_not_changed(self):
+        for function, told in FUNCTIONS.items():
+            things = {name: thing for name, (thing, _) in told.items()}
+            before = copy.deepcopy(things)
+            function(**things)
+            self.assertEqual(things, before)
+        moves = [("turn", ()), ("turn", ()), ("turn", ())]
+        moving.moves_lead(X, Y, moves)
+        self.assertEqual(moves, [("turn", ())] * 3)
+        listed = [["turn", []], ["across", [1, 2], ["part", "a"], ["part", "b"]]]
+        before = copy.deepcopy(listed)
+        for function, told in FUNCTIONS.items():
+            for name in told:
+                things = {other: thing for other, (thing, _) in told.items()}
+                things[name] = listed
+                try:
+                    function(**things)
+                except ValueError:
+                    pass
+                self.assertEqual(listed, before)
+
+
+class Results(unittest.TestCase):
+    def test_lists_are_new(self):
+        for function, things in LISTS + EMPTY_LISTS:
+            first, second = function(*things), function(*things)
+            self.assertIs(type(first), list)
+            self.assertEqual(first, second)
+            self.assertIsNot(first, second)
+            kept = list(second)
+            first.append("more")
+            del first[0]
+            self.assertEqual(second, kept)
+            self.assertEqual(function(*things), kept)
+
+    def test_they_are_what_they_are_said_to_be(self):
+        for function, things in LISTS:
+            self.assertTrue(function(*things))
+        for function, things in EMPTY_LISTS:
+            self.assertEqual(function(*things), [])
+
+    def test_no_list_stands_in_a_list_or_tuple(self):
+        for function, things in LISTS + EMPTY_LISTS:
+            self.assertEqual(len(lists_in(function(*things))), 1)
+        for function, told in FUNCTIONS.items():
+            result = function(*[thing for thing, _ in told.values()])
+            if not isinstance(result, list):
+                self.assertEqual(lists_in(result), [])
+
+    def test_equal_calls_return_equal_results(self):
+        for function, told in FUNCTIONS.items():
+            things = [thing for thing, _ in told.values()]
+            self.assertEqual(function(*things), function(*copy.deepcopy(things)))
+
+    def test_judges_return_true_or_false(self):
+        for function, things in [
+                (pictures.is_picture, [WHEEL]), (cuts.is_putting, [PICTURE_OF_X, X]), (cuts.bar_holds, [WHEEL, ((), WHOLE)]),
+                (cuts.same_shape, [WHEEL, WHEEL]), (moving.moves_lead, [X, Y, [("turn", ())]]),
+                (orders.one_order, [grid(1, 3)]),
+                (orders.order_bar_holds, [WHEEL, LEFT_UPPER, ((0,), (1,), (2,), (3,), (4,)), ((), WHOLE)])]:
+            self.assertIs(function(*things), True)
+        for function, told in FUNCTIONS.items():
+            if list(told)[-1] == "thing":
+                for wrong in WRONG:
+                    self.assertIs(function(*[thing for thing, _ in list(told.values())[:-1]], wrong), False)
+
+    def test_counts_are_integers(self):
+        for function in (cuts.count_puttings, orders.count_orders):
+            for picture in (WHEEL, PICTURE_OF_X, (WHOLE + (A,),)):
+                self.assertIs(type(function(picture)), int)
+
+    def test_ascending_as_numbers(self):
+        picture = pictures.picture_of(("across", HALF, ("across", (2, 3), A, B), A))
+        self.assertEqual([cell[0] for cell in picture], [(0, 1), (1, 3), (1, 2)])
+        self.assertEqual(cuts.cuts_of(picture, WHOLE), [("across", (1, 3)), ("across", (1, 2))])
+
+
+if __name__ == "__main__":
+    unittest.main()
