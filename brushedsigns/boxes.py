@@ -62,6 +62,13 @@ def share_at(box, word, place):
     return share_of(low, high, place)
 
 
+def drawn_into(box, region):
+    """The box, told by a picture's own whole, where this picture is drawn into the region."""
+    left, right, upper, lower = region
+    across = (between(left, right, box[0]), between(left, right, box[1]))
+    return across + (between(upper, lower, box[2]), between(upper, lower, box[3]))
+
+
 def _sides(box, word):
     """The two sides of the box between which a cut of that word lies."""
     return box[:2] if word == "across" else box[2:]

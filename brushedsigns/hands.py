@@ -5,6 +5,8 @@ from brushedsigns.values import is_tuple
 
 ACROSS_WORDS = ("left", "right")
 DOWN_WORDS = ("upper", "lower")
+# All hands, ascending.
+HANDS = (("left", "lower"), ("left", "upper"), ("right", "lower"), ("right", "upper"))
 
 
 def is_hand(thing):

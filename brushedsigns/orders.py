@@ -8,7 +8,7 @@ from brushedsigns.hands import as_written, check_hand
 from brushedsigns.pictures import (
     SOME_HAND, all_paths, below, check_picture, inner_of, is_framed, leaves_of, levels_of)
 from brushedsigns.signs import check_sign
-from brushedsigns.values import are_integers, is_tuple
+from brushedsigns.values import are_integers
 
 # The bar of an order that parts a frame from what is within it.
 PARTED_FRAME = ((), None)
@@ -88,12 +88,26 @@ def order_bar_holds(picture, hand, order, thing):
     return is_among(thing, _order_bars(picture, hand, order))
 
 
+# What the other modules ask of pictures and orders.
+
+
+def is_order(picture, thing):
+    """Whether any object is a tuple of all paths of what is known to be a picture, each once."""
+    if not isinstance(thing, tuple) or not all([are_integers(path) for path in thing]):
+        return False
+    return sorted(thing) == all_paths(picture)
+
+
+def sequence_at(order, path):
+    """The indexes of the cells of the picture within the frame at a path, of the whole one for (), as ordered."""
+    return [other[-1] for other in order if other[:-1] == path]
+
+
 def _check_order(picture, hand, thing):
     """Raises BadPicture, BadHand, or BadOrder for any object that is no tuple of all paths of the picture."""
     check_picture(picture)
     check_hand(hand)
-    paths = all_paths(picture)
-    if not isinstance(thing, tuple) or not all([are_integers(path) for path in thing]) or sorted(thing) != paths:
+    if not is_order(picture, thing):
         raise BadOrder("these are not all paths of the picture, each once")
 
 
@@ -186,8 +200,7 @@ def _allowed_tables(picture, hand, order):
     """The tables of the cuts that the order allows, for an order that keeps its frames."""
     tables = {}
     for path, level in levels_of(picture):
-        sequence = [other[-1] for other in order if other[:-1] == path]
-        tables[path] = _allowed_table(level, hand, sequence)
+        tables[path] = _allowed_table(level, hand, sequence_at(order, path))
     return tables
 
 

@@ -29,14 +29,14 @@ def paths_of(picture):
 def content_at(picture, path):
     """The part or frame at the path."""
     check_picture(picture)
-    content = _cell_at(picture, path)[4]
+    content = cell_at(picture, path)[4]
     return content if content[0] == "part" else ("frame", content[1])
 
 
 def box_at(picture, path):
     """The box of the path's cell, as it stands in its own picture."""
     check_picture(picture)
-    return _cell_at(picture, path)[:4]
+    return cell_at(picture, path)[:4]
 
 
 def level_at(picture, path):
@@ -44,7 +44,7 @@ def level_at(picture, path):
     check_picture(picture)
     if isinstance(path, tuple) and len(path) == 0:
         return picture
-    cell = _cell_at(picture, path)
+    cell = cell_at(picture, path)
     if not is_framed(cell):
         raise BadPath("there is a part at this path, and no picture within")
     return inner_of(cell)
@@ -73,7 +73,7 @@ def moved_path(picture, word, path):
     check_picture(picture)
     if not isinstance(word, str) or word not in TURNS:
         raise BadWord("a picture is not turned by this word")
-    _cell_at(picture, path)
+    cell_at(picture, path)
     turn = TURNS[word]
     return _turned_path(picture, turn, path)
 
@@ -85,6 +85,20 @@ def check_picture(thing):
     """Raises BadPicture for any object that is no picture."""
     if not is_picture(thing):
         raise BadPicture("this is no picture")
+
+
+def cell_at(picture, path):
+    """The cell at any object that is a path; BadPath for all else."""
+    if not are_integers(path) or len(path) == 0:
+        raise BadPath("this is no path")
+    level = picture
+    for index in path[:-1]:
+        if not 0 <= index < len(level) or not is_framed(level[index]):
+            raise BadPath("the picture has no such path")
+        level = inner_of(level[index])
+    if not 0 <= path[-1] < len(level):
+        raise BadPath("the picture has no such path")
+    return level[path[-1]]
 
 
 def is_framed(cell):
@@ -201,20 +215,6 @@ def _is_whole(cells):
 def _picture(sign):
     cells = [box + (with_inner(leaf, _picture),) for box, leaf in leaves_of(sign, WHOLE, SOME_HAND)]
     return tuple(sorted(cells, key=box_key))
-
-
-def _cell_at(picture, path):
-    """The cell at any object that is a path; BadPath for all else."""
-    if not are_integers(path) or len(path) == 0:
-        raise BadPath("this is no path")
-    level = picture
-    for index in path[:-1]:
-        if not 0 <= index < len(level) or not is_framed(level[index]):
-            raise BadPath("the picture has no such path")
-        level = inner_of(level[index])
-    if not 0 <= path[-1] < len(level):
-        raise BadPath("the picture has no such path")
-    return level[path[-1]]
 
 
 def _mirrored_box(box):

@@ -28,16 +28,25 @@ def sorts_of(stock, name):
     return tuple([stroke[0] for stroke in _entry(stock, name)[2]])
 
 
+def check_stock(thing):
+    """Raises BadStock for any object that is no stock."""
+    if not is_stock(thing):
+        raise BadStock("this is no stock")
+
+
+def entries_by_name(stock):
+    """The parts and frames of what is known to be a stock, by their names."""
+    parts, frames = stock
+    return {entry[0]: entry for entry in parts + frames}
+
+
 def _entry(stock, name):
     """The part or frame of that name."""
-    if not is_stock(stock):
-        raise BadStock("this is no stock")
-    if is_name(name):
-        parts, frames = stock
-        for entry in parts + frames:
-            if entry[0] == name:
-                return entry
-    raise BadName("the stock has no part or frame of this name")
+    check_stock(stock)
+    entries = entries_by_name(stock)
+    if not is_name(name) or name not in entries:
+        raise BadName("the stock has no part or frame of this name")
+    return entries[name]
 
 
 def _is_part(thing):

@@ -38,6 +38,11 @@ def is_name(thing):
     return thing[0] in LETTERS and all([mark in LETTERS or mark in DIGITS for mark in thing])
 
 
+def are_names(thing):
+    """Whether the thing is a tuple of names, however many."""
+    return isinstance(thing, tuple) and all([is_name(entry) for entry in thing])
+
+
 def is_fraction(thing):
     """Whether the thing is a tuple (top, bottom) in least terms, whatever the bottom."""
     if not is_tuple(thing, 2, 2):
@@ -77,6 +82,16 @@ def ascending(places):
 def rest_of(fraction):
     """What the fraction leaves of 1."""
     return (fraction[1] - fraction[0], fraction[1])
+
+
+def added(one, other):
+    """The sum of the two fractions."""
+    return in_least_terms(one[0] * other[1] + other[0] * one[1], one[1] * other[1])
+
+
+def apart(one, other):
+    """How far the two fractions are apart, never less than 0."""
+    return in_least_terms(abs(one[0] * other[1] - other[0] * one[1]), one[1] * other[1])
 
 
 def in_least_terms(top, bottom):

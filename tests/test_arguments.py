@@ -5,10 +5,13 @@ import inspect
 import unittest
 from itertools import product
 
-from brushedsigns import cuts, moving, orders, pictures
-from brushedsigns.errors import BadBox, BadHand, BadMove, BadOrder, BadPath, BadPicture, BadSign, BadWord, TooMany
-from tests.drawn import FRAMED, LEFT_UPPER, PICTURE_OF_X, WHEEL, framed_picture, grid
+from brushedsigns import books, cuts, learning, moving, orders, pens, pictures, stocks, strokes
+from brushedsigns.errors import (
+    BadBook, BadBox, BadHand, BadKinds, BadMove, BadName, BadOrder, BadPath, BadPicture, BadSamples, BadSign, BadSigns,
+    BadSorts, BadStock, BadStroke, BadWord, NoPutting, TooMany)
+from tests.drawn import FRAMED, LEFT_UPPER, ONE, PICTURE_OF_X, WHEEL, framed_picture, grid
 from tests.oracles import WHOLE
+from tests.shelf import ACROSS, MIXED
 from tests.things import A, B, EqualToAll, HALF, STOCK, Stubborn, X, nested, row
 
 Y = moving.moved(X, ("turn", ()))
@@ -25,7 +28,20 @@ HAND = (LEFT_UPPER, BadHand)
 MOVE = (("turn", ()), BadMove)
 AN_ORDER = (ORDER, BadOrder)
 ANY = (None, None)
+# The wheel is a picture of this stock.
+WITH_E = (MIXED[0] + (("e", "k", MIXED[0][0][2]),), MIXED[1])
+A_STOCK = (MIXED, BadStock)
+A_BOOK = (ACROSS, BadBook)
+OTHER_BOOK = ((LEFT_UPPER, (("k", None, "m", "n", "down"),), "across"), BadBook)
+KINDS = (("k", "m", "n", "k"), BadKinds)
+SAMPLES = (((FRAMED, ORDER),), BadSamples)
+SIGNS = ((("one", FRAMED), ("two", PICTURE_OF_X), ("three", FRAMED)), BadSigns)
+SORTS = (("line",), BadSorts)
+STROKE = (1, BadStroke)
 FUNCTIONS = {
+    stocks.is_stock: {"thing": ANY},
+    stocks.kind_of: {"stock": A_STOCK, "name": ("a", BadName)},
+    stocks.sorts_of: {"stock": A_STOCK, "name": ("a", BadName)},
     pictures.is_picture: {"thing": ANY},
     pictures.picture_of: {"sign": SIGN},
     pictures.paths_of: {"picture": PICTURE},
@@ -63,22 +79,66 @@ FUNCTIONS = {
     orders.order_putting: {"picture": PICTURE, "hand": HAND, "order": AN_ORDER},
     orders.order_bar: {"picture": PICTURE, "hand": HAND, "order": AN_ORDER},
     orders.order_bar_holds: {"picture": PICTURE, "hand": HAND, "order": AN_ORDER, "thing": ANY},
+    books.word_at: {"stock": A_STOCK, "book": A_BOOK, "kinds": KINDS},
+    books.written: {"stock": A_STOCK, "book": A_BOOK, "picture": PICTURE},
+    books.written_putting: {"stock": A_STOCK, "book": A_BOOK, "picture": PICTURE},
+    books.asked_of: {"stock": A_STOCK, "book": A_BOOK, "picture": PICTURE},
+    books.books_apart: {"stock": A_STOCK, "book": A_BOOK, "other": OTHER_BOOK},
+    books.cleaned: {"stock": A_STOCK, "book": OTHER_BOOK},
+    books.mirrored_book: {"book": OTHER_BOOK},
+    books.turned_over_book: {"book": OTHER_BOOK},
+    books.side_book: {"book": OTHER_BOOK},
+    learning.hands_for: {"stock": A_STOCK, "samples": SAMPLES},
+    learning.choices_for: {"stock": A_STOCK, "samples": SAMPLES, "hand": HAND},
+    learning.learned: {"stock": A_STOCK, "samples": SAMPLES, "hand": HAND},
+    learning.choice_fault: {"stock": A_STOCK, "samples": SAMPLES, "hand": HAND},
+    strokes.strokes_of: {"stock": A_STOCK, "book": A_BOOK, "picture": PICTURE},
+    strokes.sorts_row: {"stock": A_STOCK, "book": A_BOOK, "picture": PICTURE},
+    strokes.count_strokes: {"stock": A_STOCK, "picture": PICTURE},
+    strokes.found_by: {"stock": A_STOCK, "book": A_BOOK, "signs": SIGNS, "sorts": SORTS},
+    strokes.telling: {"stock": A_STOCK, "book": A_BOOK, "signs": SIGNS},
+    strokes.same_rows: {"stock": A_STOCK, "book": A_BOOK, "signs": SIGNS},
+    strokes.next_sorts: {"stock": A_STOCK, "book": A_BOOK, "signs": SIGNS, "sorts": SORTS},
+    strokes.telling_places: {"stock": A_STOCK, "book": A_BOOK, "signs": (SIGNS[0][1:2], BadSigns)},
+    strokes.unlike_by: {"stock": A_STOCK, "book": A_BOOK, "other": OTHER_BOOK, "signs": SIGNS},
+    pens.points_of: {"stock": A_STOCK, "picture": PICTURE, "path": PATH, "index": STROKE},
+    pens.pen_way: {"stock": A_STOCK, "picture": PICTURE},
+    pens.lifts_of: {"stock": A_STOCK, "book": A_BOOK, "picture": PICTURE},
+    pens.lift_sum: {"stock": A_STOCK, "book": A_BOOK, "picture": PICTURE},
+    pens.least_lifts: {"stock": A_STOCK, "picture": PICTURE, "hand": HAND},
 }
 # What is right for none of the parameters that raise an error.
 WRONG = [
     None, True, False, 7, -1, 10 ** 30 - 1, "", "x", "left", b"mirrored", [], [X], ["turn", ()], {}, set(), object(), len, (None,),
     (True, False), (False,), (WHOLE, None), STOCK, A + B, [(0,)], ((0,), True), nested((), 55), EqualToAll(), Stubborn(),
     (EqualToAll(), EqualToAll()), (Stubborn(),), ((0, 1), (True, True), (0, 1), (1, 1))]
+# Those of them that are right for one kind of argument.
+RIGHT_FOR = {BadStock: [STOCK], BadKinds: [A + B], BadSorts: [A + B]}
 # Functions whose result is a list, with what makes one that is not empty.
 LISTS = [
     (cuts.cuts_of, [FRAMED, WHOLE]), (cuts.boxes_of, [FRAMED]), (cuts.boxes_of, [WHEEL]), (cuts.puttings, [FRAMED]),
     (cuts.puttings, [(WHOLE + (A,),)]), (cuts.puttings, [framed_picture(PICTURE_OF_X)]), (moving.moves_of, [X]),
     (moving.moves_between, [X, Y]), (moving.all_led, [X]), (orders.orders_of, [FRAMED, LEFT_UPPER]),
     (orders.orders_of, [(WHOLE + (A,),), LEFT_UPPER]), (orders.crosses_of, [FRAMED]),
-    (orders.unlike_parts, [FRAMED, LEFT_UPPER])]
+    (orders.unlike_parts, [FRAMED, LEFT_UPPER]), (books.asked_of, [MIXED, ACROSS, FRAMED]),
+    (learning.hands_for, [MIXED, ()]), (learning.choices_for, [MIXED, SAMPLES[0], LEFT_UPPER]),
+    (strokes.found_by, [MIXED, ACROSS, SIGNS[0], SORTS[0]]), (strokes.telling, [MIXED, ACROSS, SIGNS[0]]),
+    (strokes.next_sorts, [MIXED, ACROSS, SIGNS[0], SORTS[0]]), (pens.lifts_of, [MIXED, ACROSS, FRAMED]),
+    (strokes.unlike_by, [MIXED, ACROSS, (("right", "upper"), (), "across"), SIGNS[0]])]
+LISTS_OF_LISTS = [(strokes.same_rows, [MIXED, ACROSS, SIGNS[0]])]
 EMPTY_LISTS = [
     (cuts.cuts_of, [WHEEL, WHOLE]), (cuts.puttings, [WHEEL]), (moving.moves_of, [A]), (moving.moves_between, [A, A]),
-    (orders.orders_of, [WHEEL, LEFT_UPPER]), (orders.crosses_of, [WHEEL]), (orders.unlike_parts, [WHEEL, LEFT_UPPER])]
+    (orders.orders_of, [WHEEL, LEFT_UPPER]), (orders.crosses_of, [WHEEL]), (orders.unlike_parts, [WHEEL, LEFT_UPPER]),
+    (books.asked_of, [MIXED, ACROSS, ONE]), (learning.choices_for, [MIXED, (), LEFT_UPPER]),
+    (learning.hands_for, [MIXED, ((PICTURE_OF_X, ((0,), (3,), (1,), (2,))),)]),
+    (strokes.found_by, [MIXED, ACROSS, SIGNS[0], ("zz",)]), (strokes.same_rows, [MIXED, ACROSS, SIGNS[0][:2]]),
+    (strokes.next_sorts, [MIXED, ACROSS, SIGNS[0], ("zz",)]), (strokes.unlike_by, [MIXED, ACROSS, ACROSS, SIGNS[0]]),
+    (pens.lifts_of, [MIXED, ACROSS, ONE])]
+
+
+def wrong_for(error):
+    right = [repr(thing) for thing in RIGHT_FOR.get(error, [])]
+    return [thing for thing in WRONG if repr(thing) not in right]
 
 
 def lists_in(thing):
@@ -100,7 +160,7 @@ class Arguments(unittest.TestCase):
         for function, told in FUNCTIONS.items():
             for name, (_, error) in told.items():
                 if error is not None:
-                    for wrong in WRONG:
+                    for wrong in wrong_for(error):
                         things = {other: thing for other, (thing, _) in told.items()}
                         things[name] = wrong
                         with self.assertRaises(error, msg=f"{function.__name__} {name} {wrong!r}"):
@@ -135,6 +195,32 @@ class Arguments(unittest.TestCase):
         with self.assertRaises(BadSign):
             moving.all_led(row(13))
 
+    def test_what_is_wrong_within_an_argument_raises_the_error_of_the_whole(self):
+        for book in [(("left", "left"), (), "across"), (LEFT_UPPER, ((None, None, None, None, "left"),), "across")]:
+            with self.assertRaises(BadBook):
+                books.written(MIXED, book, FRAMED)
+        for stock in (MIXED, WITH_E):
+            for picture in (WHEEL, framed_picture(WHEEL), framed_picture(ONE, "h"), X, None):
+                order = pictures.paths_of(picture) if pictures.is_picture(picture) else ((0,),)
+                with self.assertRaises(BadSamples):
+                    learning.hands_for(stock, ((picture, order),))
+                with self.assertRaises(BadSigns):
+                    strokes.telling(stock, ACROSS, (("one", picture),))
+
+    def test_no_putting_behind_bad_picture_and_ahead_of_what_follows(self):
+        for function in (books.written, books.written_putting, books.asked_of, strokes.strokes_of, strokes.sorts_row,
+                         pens.lifts_of, pens.lift_sum):
+            with self.assertRaises(NoPutting):
+                function(WITH_E, ACROSS, WHEEL)
+            with self.assertRaises(BadPicture):
+                function(MIXED, ACROSS, WHEEL)
+            with self.assertRaises(BadBook):
+                function(WITH_E, None, WHEEL)
+        with self.assertRaises(NoPutting):
+            pens.least_lifts(WITH_E, WHEEL, None)
+        with self.assertRaises(BadPicture):
+            pens.least_lifts(MIXED, WHEEL, None)
+
     def test_arguments_are_not_changed(self):
         for function, told in FUNCTIONS.items():
             things = {name: thing for name, (thing, _) in told.items()}
@@ -159,7 +245,7 @@ class Arguments(unittest.TestCase):
 
 class Results(unittest.TestCase):
     def test_lists_are_new(self):
-        for function, things in LISTS + EMPTY_LISTS:
+        for function, things in LISTS + LISTS_OF_LISTS + EMPTY_LISTS:
             first, second = function(*things), function(*things)
             self.assertIs(type(first), list)
             self.assertEqual(first, second)
@@ -184,6 +270,13 @@ class Results(unittest.TestCase):
             if not isinstance(result, list):
                 self.assertEqual(lists_in(result), [])
 
+    def test_no_list_stands_in_two_places(self):
+        for function, things in LISTS_OF_LISTS:
+            for results in ([function(*things)], [function(*things), function(*things)]):
+                found = lists_in(results)
+                self.assertGreater(len(found), 1 + len(results))
+                self.assertEqual(len({id(thing) for thing in found}), len(found))
+
     def test_equal_calls_return_equal_results(self):
         for function, told in FUNCTIONS.items():
             things = [thing for thing, _ in told.values()]
@@ -198,7 +291,7 @@ class Results(unittest.TestCase):
             self.assertIs(function(*things), True)
         for function, told in FUNCTIONS.items():
             if list(told)[-1] == "thing":
-                for wrong in WRONG:
+                for wrong in wrong_for(BadStock):
                     self.assertIs(function(*[thing for thing, _ in list(told.values())[:-1]], wrong), False)
 
     def test_counts_are_integers(self):

@@ -1,6 +1,6 @@
 import unittest
 
-from brushedsigns.boxes import WHOLE, box_key, is_bounded, is_box, lies_in, overlap, parted, parted_at, share_at
+from brushedsigns.boxes import WHOLE, box_key, drawn_into, is_bounded, is_box, lies_in, overlap, parted, parted_at, share_at
 from tests.drawn import box
 from tests.things import EqualToAll, Stubborn, with_each, with_lists
 
@@ -43,6 +43,12 @@ class Boxes(unittest.TestCase):
         self.assertEqual(parted(WHOLE, "down", (1, 3)), (box("0 1 0 1/3"), box("0 1 1/3 1")))
         self.assertEqual(parted(box("1/2 1 1/3 1"), "across", (1, 2)), (box("1/2 3/4 1/3 1"), box("3/4 1 1/3 1")))
         self.assertEqual(parted(box("1/2 1 1/3 1"), "down", (1, 2)), (box("1/2 1 1/3 2/3"), box("1/2 1 2/3 1")))
+
+    def test_drawn_into(self):
+        inner, region = box("1/3 1 1/4 1/2"), box("1/2 1 1/3 1")
+        self.assertEqual(drawn_into(inner, WHOLE), inner)
+        self.assertEqual(drawn_into(WHOLE, region), region)
+        self.assertEqual(drawn_into(inner, region), box("2/3 1 1/2 2/3"))
 
     def test_parted_at_a_place_and_its_share(self):
         inner = box("1/2 1 1/3 1")

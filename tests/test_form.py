@@ -35,6 +35,24 @@ INTERFACE = {
         "crosses_of": ["picture"], "one_order": ["picture"], "unlike_parts": ["picture", "hand"],
         "order_putting": ["picture", "hand", "order"], "order_bar": ["picture", "hand", "order"],
         "order_bar_holds": ["picture", "hand", "order", "thing"]},
+    "books": {
+        "word_at": ["stock", "book", "kinds"], "written": ["stock", "book", "picture"],
+        "written_putting": ["stock", "book", "picture"], "asked_of": ["stock", "book", "picture"],
+        "books_apart": ["stock", "book", "other"], "cleaned": ["stock", "book"], "mirrored_book": ["book"],
+        "turned_over_book": ["book"], "side_book": ["book"]},
+    "learning": {
+        "hands_for": ["stock", "samples"], "choices_for": ["stock", "samples", "hand"], "learned": ["stock", "samples", "hand"],
+        "choice_fault": ["stock", "samples", "hand"]},
+    "strokes": {
+        "strokes_of": ["stock", "book", "picture"], "sorts_row": ["stock", "book", "picture"],
+        "count_strokes": ["stock", "picture"], "found_by": ["stock", "book", "signs", "sorts"],
+        "telling": ["stock", "book", "signs"], "same_rows": ["stock", "book", "signs"],
+        "next_sorts": ["stock", "book", "signs", "sorts"], "telling_places": ["stock", "book", "signs"],
+        "unlike_by": ["stock", "book", "other", "signs"]},
+    "pens": {
+        "points_of": ["stock", "picture", "path", "index"], "pen_way": ["stock", "picture"],
+        "lifts_of": ["stock", "book", "picture"], "lift_sum": ["stock", "book", "picture"],
+        "least_lifts": ["stock", "picture", "hand"]},
 }
 BUILTINS = {
     "len", "range", "enumerate", "zip", "min", "max", "sum", "abs", "sorted", "reversed", "int", "str", "bool", "list", "tuple",

@@ -1,7 +1,7 @@
 import unittest
 
 from brushedsigns.values import (
-    are_integers, ascending, between, is_cut, is_fraction, is_integer, is_less, is_place, rest_of, share_of, weight)
+    added, apart, are_integers, are_names, ascending, between, is_cut, is_fraction, is_integer, is_less, is_place, rest_of, share_of, weight)
 from tests.things import EqualToAll, Stubborn
 
 
@@ -51,6 +51,20 @@ class Values(unittest.TestCase):
         self.assertEqual(ascending(places[::-1] + places), places)
         self.assertEqual(sorted(places, key=weight), places)
         self.assertEqual(len({weight(place) for place in places}), len(places))
+
+    def test_sums_and_distances_of_whatever_bottoms(self):
+        self.assertEqual(added((1, 6), (1, 3)), (1, 2))
+        self.assertEqual(added((0, 1), (0, 1)), (0, 1))
+        self.assertEqual(added((7, 2), (1, 10 ** 9)), (3500000001, 10 ** 9))
+        for one, other, wanted in [((1, 2), (1, 3), (1, 6)), ((1, 3), (1, 3), (0, 1)), ((0, 1), (1, 10 ** 9), (1, 10 ** 9))]:
+            self.assertEqual(apart(one, other), wanted)
+            self.assertEqual(apart(other, one), wanted)
+
+    def test_tuples_of_names(self):
+        for thing in [(), ("a",), ("line", "dot", "line")]:
+            self.assertIs(are_names(thing), True)
+        for thing in [None, [], ["a"], "a", ("A",), ("a", None), (("a",),), (EqualToAll(),), EqualToAll(), Stubborn()]:
+            self.assertIs(are_names(thing), False)
 
     def test_tuples_of_integers(self):
         for thing in [(), (0,), (1, -1, 10 ** 29)]:
