@@ -69,6 +69,13 @@ def drawn_into(box, region):
     return across + (between(upper, lower, box[2]), between(upper, lower, box[3]))
 
 
+def drawn_out(box, region):
+    """The box, which lies in the region, told by this as by a whole of its own."""
+    left, right, upper, lower = region
+    across = (share_of(left, right, box[0]), share_of(left, right, box[1]))
+    return across + (share_of(upper, lower, box[2]), share_of(upper, lower, box[3]))
+
+
 def _sides(box, word):
     """The two sides of the box between which a cut of that word lies."""
     return box[:2] if word == "across" else box[2:]

@@ -71,8 +71,7 @@ def turned_side(picture):
 def moved_path(picture, word, path):
     """The path of the same cell in the picture that the function of that name makes of this one."""
     check_picture(picture)
-    if not isinstance(word, str) or word not in TURNS:
-        raise BadWord("a picture is not turned by this word")
+    _check_turn(word)
     cell_at(picture, path)
     turn = TURNS[word]
     return _turned_path(picture, turn, path)
@@ -99,6 +98,29 @@ def cell_at(picture, path):
     if not 0 <= path[-1] < len(level):
         raise BadPath("the picture has no such path")
     return level[path[-1]]
+
+
+def turned_by(picture, word):
+    """The picture as the function of that name returns it, BadWord for any object that is no such name."""
+    _check_turn(word)
+    turn = TURNS[word]
+    return _turned(picture, turn)
+
+
+def in_sequence(cells):
+    """The cells as a tuple, ascending as those of a picture; perhaps they are none."""
+    return tuple(sorted(cells, key=box_key))
+
+
+def with_cells_at(picture, path, cells):
+    """The picture with the cells in the place of the one at the path; perhaps it is no picture then."""
+    index = path[0]
+    placed = list(cells)
+    if len(path) > 1:
+        cell = picture[index]
+        content = with_inner(cell[4], lambda inner: with_cells_at(inner, path[1:], cells))
+        placed = [cell[:4] + (content,)]
+    return in_sequence(list(picture[:index] + picture[index + 1:]) + placed)
 
 
 def is_framed(cell):
@@ -213,8 +235,13 @@ def _is_whole(cells):
 
 
 def _picture(sign):
-    cells = [box + (with_inner(leaf, _picture),) for box, leaf in leaves_of(sign, WHOLE, SOME_HAND)]
-    return tuple(sorted(cells, key=box_key))
+    return in_sequence([box + (with_inner(leaf, _picture),) for box, leaf in leaves_of(sign, WHOLE, SOME_HAND)])
+
+
+def _check_turn(word):
+    """Raises BadWord for any object by which no picture is turned."""
+    if not isinstance(word, str) or word not in TURNS:
+        raise BadWord("a picture is not turned by this word")
 
 
 def _mirrored_box(box):
@@ -237,7 +264,7 @@ TURNS = {"mirrored": _mirrored_box, "turned_over": _turned_over_box, "turned_sid
 
 def _turned(picture, turn):
     """The picture with each cell in the box that the turn makes of its own, also within frames."""
-    return tuple(sorted([_turned_cell(cell, turn) for cell in picture], key=box_key))
+    return in_sequence([_turned_cell(cell, turn) for cell in picture])
 
 
 def _turned_cell(cell, turn):

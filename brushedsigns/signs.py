@@ -2,7 +2,7 @@
 
 from brushedsigns.boxes import WHOLE, is_bounded, parted
 from brushedsigns.errors import BadSign, BadText
-from brushedsigns.values import DIGITS, MOST_DEEP, MOST_PARTS, is_cut, is_name, is_tuple
+from brushedsigns.values import MOST_DEEP, MOST_PARTS, is_cut, is_name, is_number, is_tuple
 
 CUT_WORDS = ("across", "down")
 SIGN_WORDS = ("part", "within", "across", "down")
@@ -151,14 +151,7 @@ def _word(words, at):
 def _cut_told(word):
     """The cut that a word tells, None if it tells none."""
     top, _, bottom = word.partition("/")
-    if not _are_digits(top) or not _are_digits(bottom):
+    if not is_number(top, MOST_DIGITS) or not is_number(bottom, MOST_DIGITS):
         return None
     cut = (int(top), int(bottom))
     return cut if is_cut(cut) else None
-
-
-def _are_digits(text):
-    """Whether the text is a number of a cut, without a 0 ahead."""
-    if not 1 <= len(text) <= MOST_DIGITS or text[0] == "0":
-        return False
-    return all([mark in DIGITS for mark in text])

@@ -43,6 +43,13 @@ def are_names(thing):
     return isinstance(thing, tuple) and all([is_name(entry) for entry in thing])
 
 
+def is_number(text, most):
+    """Whether the text is at most so many digits, without a 0 ahead but for 0 itself."""
+    if not 1 <= len(text) <= most or not all([mark in DIGITS for mark in text]):
+        return False
+    return text[0] != "0" or len(text) == 1
+
+
 def is_fraction(thing):
     """Whether the thing is a tuple (top, bottom) in least terms, whatever the bottom."""
     if not is_tuple(thing, 2, 2):

@@ -5,10 +5,12 @@ import inspect
 import unittest
 from itertools import product
 
-from brushedsigns import books, cuts, learning, moving, orders, pens, pictures, stocks, strokes
+from brushedsigns import books, cuts, finding, grids, learning, moving, orders, pens, pictures, signs, stocks, strokes
+from brushedsigns.desk import Desk
 from brushedsigns.errors import (
-    BadBook, BadBox, BadHand, BadKinds, BadMove, BadName, BadOrder, BadPath, BadPicture, BadSamples, BadSign, BadSigns,
-    BadSorts, BadStock, BadStroke, BadWord, NoPutting, TooMany)
+    BadBook, BadBox, BadCommand, BadCount, BadCut, BadGrid, BadHand, BadKinds, BadMove, BadName, BadOrder, BadPath, BadPicture,
+    BadSamples, BadSign, BadSigns, BadSorts, BadStock, BadStroke, BadText, BadWord, NoPutting, TooMany)
+from brushedsigns.session import Session
 from tests.drawn import FRAMED, LEFT_UPPER, ONE, PICTURE_OF_X, WHEEL, framed_picture, grid
 from tests.oracles import WHOLE
 from tests.shelf import ACROSS, MIXED
@@ -38,10 +40,43 @@ SAMPLES = (((FRAMED, ORDER),), BadSamples)
 SIGNS = ((("one", FRAMED), ("two", PICTURE_OF_X), ("three", FRAMED)), BadSigns)
 SORTS = (("line",), BadSorts)
 STROKE = (1, BadStroke)
+GRID = ((("a", "b"), ("c", "d")), BadGrid)
+ROWS = (3, BadCount)
+COLUMNS = (4, BadCount)
+PART_PATH = ((0,), BadPath)
+CUT_WORD = ("down", BadWord)
+PART_NAME = ("b", BadName)
+
+
+def of_session(name):
+    """A function that does a deed in a new session, and returns the picture and the book behind it."""
+    def done(*things, **named):
+        session = Session(MIXED, ACROSS, FRAMED)
+        getattr(session, name)(*things, **named)
+        return session.picture(), session.book()
+
+    done.__name__ = name
+    done.__signature__ = inspect.Signature(list(inspect.signature(getattr(Session, name)).parameters.values())[1:])
+    return done
+
+
+def said(row):
+    return Desk().say(row)
+
+
+def held(stock, book, picture):
+    return Session(stock, book, picture).order()
+
+
 FUNCTIONS = {
     stocks.is_stock: {"thing": ANY},
     stocks.kind_of: {"stock": A_STOCK, "name": ("a", BadName)},
     stocks.sorts_of: {"stock": A_STOCK, "name": ("a", BadName)},
+    signs.is_sign: {"thing": ANY},
+    signs.size_of: {"sign": SIGN},
+    signs.depth_of: {"sign": SIGN},
+    signs.write_sign: {"sign": SIGN},
+    signs.read_sign: {"text": ("part a", BadText)},
     pictures.is_picture: {"thing": ANY},
     pictures.picture_of: {"sign": SIGN},
     pictures.paths_of: {"picture": PICTURE},
@@ -106,6 +141,25 @@ FUNCTIONS = {
     pens.lifts_of: {"stock": A_STOCK, "book": A_BOOK, "picture": PICTURE},
     pens.lift_sum: {"stock": A_STOCK, "book": A_BOOK, "picture": PICTURE},
     pens.least_lifts: {"stock": A_STOCK, "picture": PICTURE, "hand": HAND},
+    finding.taken_out: {"picture": PICTURE, "box": BOX},
+    finding.found_in: {"picture": PICTURE, "other": OTHER_PICTURE},
+    finding.put_in: {"picture": PICTURE, "box": BOX, "other": OTHER_PICTURE},
+    finding.exchanged: {"picture": PICTURE, "other": (PICTURE_OF_X, BadPicture), "third": (ONE, BadPicture)},
+    finding.least_unlike: {"picture": PICTURE, "other": OTHER_PICTURE},
+    finding.one_part_apart: {"stock": A_STOCK, "signs": SIGNS},
+    finding.parts_in: {"picture": PICTURE},
+    finding.signs_with: {"stock": A_STOCK, "signs": SIGNS, "picture": PICTURE},
+    grids.grid_picture: {"grid": GRID},
+    grids.grid_puttings: {"rows": ROWS, "columns": COLUMNS},
+    grids.grid_orders: {"rows": ROWS, "columns": COLUMNS},
+    grids.grid_ways: {"grid": GRID, "hand": HAND},
+    held: {"stock": A_STOCK, "book": A_BOOK, "picture": PICTURE},
+    of_session("put"): {"path": PART_PATH, "name": PART_NAME},
+    of_session("cut"): {"path": PART_PATH, "word": CUT_WORD, "cut": ((2, 3), BadCut), "name": PART_NAME},
+    of_session("frame"): {"path": PART_PATH, "name": ("g", BadName)},
+    of_session("turn"): {"word": ("turned_side", BadWord)},
+    of_session("rule"): {"kinds": (("k", None, None, "n"), BadKinds), "word": CUT_WORD},
+    said: {"row": ("orders", BadCommand)},
 }
 # What is right for none of the parameters that raise an error.
 WRONG = [
@@ -113,7 +167,7 @@ WRONG = [
     (True, False), (False,), (WHOLE, None), STOCK, A + B, [(0,)], ((0,), True), nested((), 55), EqualToAll(), Stubborn(),
     (EqualToAll(), EqualToAll()), (Stubborn(),), ((0, 1), (True, True), (0, 1), (1, 1))]
 # Those of them that are right for one kind of argument.
-RIGHT_FOR = {BadStock: [STOCK], BadKinds: [A + B], BadSorts: [A + B]}
+RIGHT_FOR = {BadStock: [STOCK], BadKinds: [A + B], BadSorts: [A + B], BadCount: [7]}
 # Functions whose result is a list, with what makes one that is not empty.
 LISTS = [
     (cuts.cuts_of, [FRAMED, WHOLE]), (cuts.boxes_of, [FRAMED]), (cuts.boxes_of, [WHEEL]), (cuts.puttings, [FRAMED]),
@@ -124,7 +178,9 @@ LISTS = [
     (learning.hands_for, [MIXED, ()]), (learning.choices_for, [MIXED, SAMPLES[0], LEFT_UPPER]),
     (strokes.found_by, [MIXED, ACROSS, SIGNS[0], SORTS[0]]), (strokes.telling, [MIXED, ACROSS, SIGNS[0]]),
     (strokes.next_sorts, [MIXED, ACROSS, SIGNS[0], SORTS[0]]), (pens.lifts_of, [MIXED, ACROSS, FRAMED]),
-    (strokes.unlike_by, [MIXED, ACROSS, (("right", "upper"), (), "across"), SIGNS[0]])]
+    (strokes.unlike_by, [MIXED, ACROSS, (("right", "upper"), (), "across"), SIGNS[0]]),
+    (finding.found_in, [FRAMED, PICTURE_OF_X]), (finding.parts_in, [FRAMED]), (finding.signs_with, [MIXED, SIGNS[0], ONE]),
+    (finding.one_part_apart, [MIXED, (("one", ONE), ("two", (WHOLE + (B,),)))]), (grids.grid_ways, [GRID[0], LEFT_UPPER])]
 LISTS_OF_LISTS = [(strokes.same_rows, [MIXED, ACROSS, SIGNS[0]])]
 EMPTY_LISTS = [
     (cuts.cuts_of, [WHEEL, WHOLE]), (cuts.puttings, [WHEEL]), (moving.moves_of, [A]), (moving.moves_between, [A, A]),
@@ -133,7 +189,8 @@ EMPTY_LISTS = [
     (learning.hands_for, [MIXED, ((PICTURE_OF_X, ((0,), (3,), (1,), (2,))),)]),
     (strokes.found_by, [MIXED, ACROSS, SIGNS[0], ("zz",)]), (strokes.same_rows, [MIXED, ACROSS, SIGNS[0][:2]]),
     (strokes.next_sorts, [MIXED, ACROSS, SIGNS[0], ("zz",)]), (strokes.unlike_by, [MIXED, ACROSS, ACROSS, SIGNS[0]]),
-    (pens.lifts_of, [MIXED, ACROSS, ONE])]
+    (pens.lifts_of, [MIXED, ACROSS, ONE]), (finding.found_in, [FRAMED, WHEEL]), (finding.one_part_apart, [MIXED, SIGNS[0]]),
+    (finding.signs_with, [MIXED, SIGNS[0][:1], (WHOLE + (("within", "g", ONE),),)])]
 
 
 def wrong_for(error):
@@ -298,6 +355,10 @@ class Results(unittest.TestCase):
         for function in (cuts.count_puttings, orders.count_orders):
             for picture in (WHEEL, PICTURE_OF_X, (WHOLE + (A,),)):
                 self.assertIs(type(function(picture)), int)
+        for function in (grids.grid_puttings, grids.grid_orders):
+            self.assertIs(type(function(1, 1)), int)
+        self.assertIs(type(strokes.count_strokes(MIXED, ONE)), int)
+        self.assertIs(type(Session(MIXED, ACROSS, ONE).choices()), int)
 
     def test_ascending_as_numbers(self):
         picture = pictures.picture_of(("across", HALF, ("across", (2, 3), A, B), A))

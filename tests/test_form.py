@@ -53,6 +53,21 @@ INTERFACE = {
         "points_of": ["stock", "picture", "path", "index"], "pen_way": ["stock", "picture"],
         "lifts_of": ["stock", "book", "picture"], "lift_sum": ["stock", "book", "picture"],
         "least_lifts": ["stock", "picture", "hand"]},
+    "finding": {
+        "taken_out": ["picture", "box"], "found_in": ["picture", "other"], "put_in": ["picture", "box", "other"],
+        "exchanged": ["picture", "other", "third"], "least_unlike": ["picture", "other"],
+        "one_part_apart": ["stock", "signs"], "parts_in": ["picture"], "signs_with": ["stock", "signs", "picture"]},
+    "grids": {
+        "grid_picture": ["grid"], "grid_puttings": ["rows", "columns"], "grid_orders": ["rows", "columns"],
+        "grid_ways": ["grid", "hand"]},
+}
+CLASSES = {
+    "session": {"Session": {
+        "__init__": ["self", "stock", "book", "picture"], "put": ["self", "path", "name"],
+        "cut": ["self", "path", "word", "cut", "name"], "frame": ["self", "path", "name"], "turn": ["self", "word"],
+        "rule": ["self", "kinds", "word"], "undo": ["self"], "picture": ["self"], "book": ["self"], "order": ["self"],
+        "row": ["self"], "choices": ["self"], "__eq__": ["self", "other"], "copy": ["self"]}},
+    "desk": {"Desk": {"__init__": ["self"], "say": ["self", "row"], "session": ["self"]}},
 }
 BUILTINS = {
     "len", "range", "enumerate", "zip", "min", "max", "sum", "abs", "sorted", "reversed", "int", "str", "bool", "list", "tuple",
@@ -62,6 +77,9 @@ METHODS = {
     "islower", "isspace", "isupper", "items", "join", "keys", "ljust", "lower", "lstrip", "partition", "pop", "remove",
     "replace", "reverse", "rfind", "rjust", "rpartition", "rsplit", "rstrip", "setdefault", "split", "splitlines",
     "startswith", "strip", "update", "upper", "values", "zfill", "bit_length", "add", "discard", "__init__"}
+OWN_METHODS = {
+    "put", "cut", "frame", "turn", "rule", "undo", "picture", "book", "order", "row", "choices", "copy", "session", "_part_at",
+    "_check_part", "_draw", "_do"}
 STATEMENTS = (ast.Global, ast.AsyncFunctionDef, ast.Try, ast.With, ast.Yield, ast.YieldFrom, ast.AnnAssign, ast.SetComp)
 BARRED_WORDS = {
     "type", "typing", "typing_extensions", "enum", "Enum", "IntEnum", "StrEnum", "Flag", "IntFlag", "Generic", "Protocol",
@@ -122,7 +140,7 @@ class Form(unittest.TestCase):
                 if isinstance(node, ast.Name) and node.id in dir(builtins):
                     self.assertIn(node.id, BUILTINS, path)
                 if isinstance(node, ast.Call) and isinstance(node.func, ast.Attribute):
-                    self.assertIn(node.func.attr, METHODS, path)
+                    self.assertIn(node.func.attr, METHODS | OWN_METHODS, path)
                 if isinstance(node, ast.Constant) and isinstance(node.value, str):
                     self.assertNotIn("%", node.value, path)
                 self.assertFalse(isinstance(node, ast.BinOp) and isinstance(node.op, ast.Div), path)
@@ -190,6 +208,25 @@ class Interface(unittest.TestCase):
                 found = getattr(module, function)
                 self.assertEqual(found.__module__, f"brushedsigns.{name}")
                 self.assertEqual(list(inspect.signature(found).parameters), parameters)
+
+    def test_classes_and_their_methods(self):
+        for name, told in CLASSES.items():
+            module = importlib.import_module(f"brushedsigns.{name}")
+            for word, methods in told.items():
+                found = getattr(module, word)
+                self.assertEqual(found.__module__, f"brushedsigns.{name}")
+                for method, parameters in methods.items():
+                    self.assertIn(method, vars(found))
+                    self.assertEqual(list(inspect.signature(vars(found)[method]).parameters), parameters)
+
+    def test_no_attribute_has_the_name_of_a_method(self):
+        for path in files():
+            for node in ast.parse(path.read_text(encoding="utf-8")).body:
+                if isinstance(node, ast.ClassDef):
+                    methods = {inner.name for inner in node.body if isinstance(inner, ast.FunctionDef)}
+                    stored = {inner.attr for inner in ast.walk(node)
+                              if isinstance(inner, ast.Attribute) and isinstance(inner.ctx, ast.Store)}
+                    self.assertEqual(methods & stored, set(), path)
 
 
 if __name__ == "__main__":

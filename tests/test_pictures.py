@@ -26,11 +26,12 @@ def some_pictures(many, seed=7):
 def no_paths(picture):
     """Objects that are no path of the picture."""
     known = [repr(path) for path in oracles.paths(picture)]
+    backward = [(path[0] - len(picture),) + path[1:] for path in oracles.paths(picture)]
     found = [thing for thing in objects() if repr(thing) not in known]
     found += [(-1,), (len(picture),), (10 ** 20,), (None,), ("0",), (EqualToAll(),), (Stubborn(),), ((0,),), [0], 0, "0",
-              (False,), (True,), [(0,)]]
+              (False,), (True,), [(0,)]] + backward
     for path in oracles.paths(picture):
-        found += [list(path), path + (-1,), path + (12,), path[:-1] + (True,), path[:-1] + (False,), path + (None,)]
+        found += [list(path), path + (-1,), path + (12,), (path[0] - 12,) + path[1:], (path[0] + 12,) + path[1:], path[:-1] + (True,), path[:-1] + (False,), path + (None,)]
         if path + (0,) not in oracles.paths(picture):
             found += [path + (0,), path + (0, 0)]
     return found
@@ -151,6 +152,8 @@ class IsPicture(unittest.TestCase):
         # What is left out here and what is there twice have the same area.
         self.check(drawn(cell("0 1/2 0 1"), cell("1/4 3/4 0 1")), False)
         self.check(drawn(cell("0 2/3 0 1"), cell("1/3 2/3 0 1")), False)
+        self.check(drawn(PICTURE_OF_X[0], *PICTURE_OF_X[:2], PICTURE_OF_X[3]), False)
+        self.check(drawn(cell("0 2/3 0 1/2"), cell("1/3 1 0 1/2"), cell("0 2/3 1/2 1")), False)
 
     def test_cells_that_overlap(self):
         self.check(ONE + ONE, False)
