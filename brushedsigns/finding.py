@@ -115,7 +115,7 @@ def _apart(places):
     return taken
 
 
-def _outside(picture, box):
+def _cells_not_in(picture, box):
     return [cell for cell in picture if not lies_in(cell, box)]
 
 
@@ -123,7 +123,7 @@ def _with_boxes_filled(picture, boxes, other):
     """The picture with the other one in the place of what is in each of the boxes; perhaps none."""
     cells = list(picture)
     for box in boxes:
-        cells = _outside(cells, box) + [drawn_into(cell, box) + cell[4:] for cell in other]
+        cells = _cells_not_in(cells, box) + [drawn_into(cell, box) + cell[4:] for cell in other]
     return in_sequence(cells)
 
 
@@ -141,7 +141,7 @@ def _content_exchanged(path, content, places, third):
 def _least_unlike(path, picture, other):
     """What least_unlike returns of two unlike pictures, which are those within frames at the path."""
     # Where the cells outside are the same, a box that comes by cutting the one comes by cutting the other, too.
-    boxes = [box for box in table_of(picture) if _outside(picture, box) == _outside(other, box)]
+    boxes = [box for box in table_of(picture) if _cells_not_in(picture, box) == _cells_not_in(other, box)]
     innermost = [box for box in boxes if all([lies_in(box, around) for around in boxes])]
     least = innermost[0]
     index = indexes_in(picture, least)[0]

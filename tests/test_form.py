@@ -5,6 +5,7 @@ import builtins
 import importlib
 import inspect
 import pathlib
+import re
 import unittest
 
 FOLDER = pathlib.Path(__file__).resolve().parent.parent / "brushedsigns"
@@ -87,6 +88,11 @@ BARRED_WORDS = {
     "register", "mro", "elements", "open", "input", "law", "version_info", "attrgetter", "breakpoint", "builtins", "compile",
     "copyright", "credits", "delattr", "dir", "eval", "exec", "exit", "gc", "getattr", "globals", "hasattr", "help", "id",
     "importlib", "license", "locals", "methodcaller", "os", "quit", "setattr", "vars", "sys"}
+# Those of L12: the names are barred with digits or underscores after them, too.
+BARRED_NAMES = ("_cold", "_tuplegetter", "_outside", "_record", "_written_out", "_member_names")
+BARRED_BEGINNINGS = ("_pe_", "_dcw_", "_enum_", "_cm_", "_twin_re_", "_lay_", "_law_", "_stub_", "_sre", "_WallAttr")
+FREE_FOR_OBJECTS = "_wall"
+BARRED_EVERYWHERE = {"_wall", "_WallAttr"}
 
 
 def files():
@@ -198,6 +204,89 @@ def inner_names(tree):
                 if isinstance(node, ast.Name) and isinstance(node.ctx, ast.Store):
                     found.append(node.id)
     return found
+
+
+def names_in(tree):
+    """Each name in a file's code: its line, the name, and whether it is an attribute or a method."""
+    methods = {inner for node in ast.walk(tree) if isinstance(node, ast.ClassDef) for inner in node.body}
+    for node in ast.walk(tree):
+        of_object = isinstance(node, (ast.Attribute, ast.MatchClass, ast.Constant)) or node in methods
+        for word in words_of(node):
+            yield node.lineno, word, of_object
+
+
+def words_of(node):
+    """The names that one node of a file's code holds itself."""
+    # A string that is a name as a whole counts as one: slots are given so.
+    if isinstance(node, ast.Constant):
+        return [node.value] if isinstance(node.value, str) and node.value.isidentifier() else []
+    values = [value if isinstance(value, list) else [value] for _, value in ast.iter_fields(node)]
+    names = [name for row in values for name in row if isinstance(name, str)]
+    return [word for name in names for word in name.split(".")]
+
+
+def is_barred(name, of_object):
+    """Whether L12 bars the name; an attribute or a method may begin with what is free for objects."""
+    if not of_object and name.startswith(FREE_FOR_OBJECTS):
+        return True
+    return name.rstrip("0123456789_") in BARRED_NAMES or name.startswith(BARRED_BEGINNINGS)
+
+
+def barred_in(stem, text):
+    """What L12 bars in a file, its own name included: the line and the name of each."""
+    names = [(0, stem, False)] + list(names_in(ast.parse(text)))
+    found = {(line, name) for line, name, of_object in names if is_barred(name, of_object)}
+    for line, row in enumerate(text.split("\n"), 1):
+        found.update((line, word) for word in re.findall(r"\w+", row) if word in BARRED_EVERYWHERE)
+    return sorted(found)
+
+
+class BarredNames(unittest.TestCase):
+    FORMS = (
+        "def {}(k):\n    pass", "class {}:\n    pass", "{} = 1", "k = {}(1)", "def f({}):\n    pass", "def f(*{}):\n    pass",
+        "f = lambda {}: 1", "k = [1 for {} in xs]", "for k, ({}, n) in xs:\n    pass", "k = f({}=1)", "if ({} := f(k)):\n    pass",
+        "from brushedsigns.cuts import {}", "from brushedsigns.cuts import cuts_of as {}", "from brushedsigns.{} import f",
+        "try:\n    f()\nexcept BadBox as {}:\n    pass", "match k:\n    case [{}]:\n        pass",
+        "match k:\n    case [*{}]:\n        pass", "def f():\n    def g():\n        nonlocal {}", "k = f'{{{}}}'")
+    OBJECT_FORMS = (
+        "k.{} = 1", "k.{}()", "class Box:\n    def {}(self):\n        pass", "class Box:\n    __slots__ = ('{}',)",
+        "match k:\n    case Box({}=1):\n        pass")
+
+    def test_no_file_of_the_package_has_one(self):
+        for path in files():
+            self.assertEqual(barred_in(path.stem, path.read_text(encoding="utf-8")), [], path)
+
+    def test_each_is_found_wherever_it_stands(self):
+        names = [name + end for name in BARRED_NAMES for end in ("", "2", "_", "_2", "__")]
+        names += [name + end for name in BARRED_BEGINNINGS for end in ("", "x", "1")]
+        for name in names:
+            for form in self.FORMS + self.OBJECT_FORMS:
+                text = form.format(name)
+                self.assertEqual({word for _, word in barred_in("cuts", text)}, {name}, text)
+            self.assertEqual(barred_in(name, ""), [(0, name)])
+
+    def test_what_an_attribute_or_a_method_may_begin_with(self):
+        for form in self.FORMS:
+            self.assertEqual([word for _, word in barred_in("cuts", form.format("_walls"))], ["_walls"], form)
+        for form in self.OBJECT_FORMS:
+            self.assertEqual(barred_in("cuts", form.format("_walls")), [], form)
+
+    def test_the_words_that_stand_nowhere(self):
+        for word in sorted(BARRED_EVERYWHERE):
+            for form in ("k = 1  # a {} here", "'''Text\n\nof a {}.'''", "k = 'the {}'", "k.{} = 1"):
+                self.assertEqual({found for _, found in barred_in("cuts", form.format(word))}, {word}, form)
+
+    def test_the_line_is_told(self):
+        text = "def _outside(k):\n    return k\n\n\ndef f(k):\n    return _outside(k) + _outside(1)\n"
+        self.assertEqual(barred_in("finding", text), [(1, "_outside"), (6, "_outside")])
+
+    def test_other_names_are_free(self):
+        for name in ("outside", "_outside_of", "_outsides", "_cells_outside", "record", "_recorded", "_layer", "_lawful", "_pen",
+                     "_written", "_written_by", "_member", "_colder", "_enumerated", "_twin", "_stub", "_cm", "wall", "a_wall"):
+            for form in self.FORMS + self.OBJECT_FORMS:
+                self.assertEqual(barred_in("cuts", form.format(name)), [], form)
+            self.assertEqual(barred_in(name, ""), [])
+        self.assertEqual(barred_in("cuts", "k = 1  # _outside, _record\nn = 'the _outside'\n"), [])
 
 
 class Interface(unittest.TestCase):
